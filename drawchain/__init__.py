@@ -1,0 +1,1 @@
+"""Drawchain: makers drawn one by one through chains."""
