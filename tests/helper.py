@@ -1,4 +1,6 @@
-"""What several tests need: short asking, and a second way to draw, by generators."""
+"""What several tests need: short asking, many chains, and a second way to draw, by generators."""
+
+import random
 
 from drawchain.drawing import Drawer
 
@@ -140,3 +142,50 @@ class Model:
             self.is_long = True
             return LONG
         return END if number is None else ("number", number)
+
+
+class Maze:
+    """Makes chains; the same ones in each run, as the seed is the same."""
+
+    def __init__(self, seed, counts=0.4):
+        self.dice = random.Random(seed)
+        self.counts = counts
+        self.makers_left = 0
+        self.stages_left = 0
+
+    def whole_chain(self, makers=4, stages=12):
+        self.makers_left = self.dice.randint(1, makers)
+        self.stages_left = self.dice.randint(0, stages)
+        return self.part()
+
+    def part(self):
+        self.makers_left -= 1
+        maker = self.maker()
+        stages = []
+        while self.stages_left and self.dice.random() < 0.85:
+            self.stages_left -= 1
+            stages.append(self.stage())
+        return (maker, tuple(stages))
+
+    def maker(self):
+        dice = self.dice
+        if dice.random() < self.counts:
+            return ("count", dice.randint(-9, 9), dice.randint(-3, 3))
+        many = dice.choice((0, 1, 2, 5, 12, 40, 100))
+        return ("row", tuple(dice.randint(-6, 6) for _ in range(many)))
+
+    def stage(self):
+        dice = self.dice
+        if self.makers_left and dice.random() < 0.35:
+            return (dice.choice(("both", "then")), self.part())
+        wheel = dice.choice((2, 3, 5))
+        return dice.choice((
+            ("add", dice.randint(-5, 5)),
+            ("times", dice.choice((-1, 0, 2, 3))),
+            ("keep", dice.randrange(wheel), wheel),
+            ("drop", dice.choice((0, 1, 4, 70))),
+            ("take", dice.choice((0, 1, 7, 100))),
+            ("each", dice.choice((1, 2, 3))),
+            ("until", dice.choice((-3, 0, 4, 30, 500))),
+            ("unlike",),
+        ))

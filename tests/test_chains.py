@@ -1,10 +1,13 @@
-"""Point 2, and what point 1 says of numbers: what a chain is, and its makers."""
+"""Point 2, and what point 1 says of numbers: what a chain is to all that is handed one."""
 
 import unittest
 
+from drawchain.asking import first
 from drawchain.chains import makers
 from drawchain.drawing import Drawer
-from drawchain.errors import BadChain
+from drawchain.errors import BadChain, NoWhole
+from drawchain.notes import read_chain, written
+from drawchain.whole import whole
 from helper import COUNT, chain, row
 
 MOST = 10 ** 30 - 1
@@ -16,12 +19,24 @@ class Chains(unittest.TestCase):
             with self.subTest(chain=good):
                 self.assertEqual(makers(good)[0], good[0])
                 self.assertEqual(set(Drawer(good).drawn()), {0})
+                self.assertEqual(first(good, 0)[:2], ([], "more"))
+                self.assertEqual(read_chain(written(good)), good)
+                if "count" in written(good):
+                    self.assertRaises(NoWhole, whole, good)
+                else:
+                    self.assertIsInstance(whole(good), list)
 
     def refuse(self, *chains):
         for bad in chains:
             with self.subTest(chain=repr(bad)[:200]):
-                self.assertRaises(BadChain, makers, bad)
-                self.assertRaises(BadChain, Drawer, bad)
+                self.refuse_one(bad)
+
+    def refuse_one(self, bad):
+        for asked in (makers, Drawer, whole, written):
+            self.assertRaises(BadChain, asked, bad)
+        # Also where the count is refused: the chain is handed in first.
+        for many in (0, 3, 1000, -1, 1001, 10 ** 40):
+            self.assertRaises(BadChain, first, bad, many)
 
     def accept_stages(self, *stages):
         self.accept(*[chain(COUNT, stage) for stage in stages])
@@ -30,6 +45,7 @@ class Chains(unittest.TestCase):
         self.refuse(*[chain(COUNT, stage) for stage in stages])
         # A chain within a chain is looked at just as well.
         self.refuse(*[chain(COUNT, ("then", chain(COUNT, stage))) for stage in stages])
+        self.refuse(*[chain(row(1), ("both", chain(row(2), stage))) for stage in stages])
 
     def refuse_makers(self, *bad_makers):
         self.refuse(*[chain(maker) for maker in bad_makers])
@@ -159,8 +175,7 @@ class Chains(unittest.TestCase):
         deep = chain(COUNT)
         for _ in range(5000):
             deep = chain(COUNT, ("both", deep))
-        self.assertRaises(BadChain, makers, deep)
-        self.assertRaises(BadChain, Drawer, deep)
+        self.refuse_one(deep)
 
 
 class Makers(unittest.TestCase):
